@@ -234,7 +234,7 @@ func (r *reader) opening() int {
 	name := r.groupName()
 	r.must('>')
 	r.groups++
-	r.names[name] = r.groups
+	r.names[strings.Clone(name)] = r.groups // a pattern keeps nothing of its text
 	return r.groups
 }
 

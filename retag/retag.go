@@ -6,10 +6,15 @@ import (
 	"retag/digest"
 	"retag/expand"
 	"retag/regex"
+	"retag/rule"
+	"retag/series"
 )
 
 // Engine rewrites labels.
-type Engine struct{}
+type Engine struct {
+	rules []rule.Rule
+	cache int // how many series may be remembered
+}
 
 // Match tells whether a pattern matches, and what its groups stand for (P3).
 func Match(pattern string, s string) ([]api.Span, bool, api.Errno, int) {
@@ -38,14 +43,39 @@ func Expand(pattern string, s string, template string) (string, api.Errno) {
 func Hash(s string) uint64 { return digest.Of(s) }
 
 // Open makes an engine (P5).
-func Open(cache int) *Engine { return nil }
+func Open(cache int) *Engine {
+	return &Engine{cache: max(1, min(cache, api.MaxCache))}
+}
 
 // Load gives an engine other rules (P5).
-func (e *Engine) Load(rules []api.Rule) (api.Errno, int, int) { return api.OK, 0, 0 }
+func (e *Engine) Load(rules []api.Rule) (api.Errno, int, int) {
+	if len(rules) > api.MaxRules {
+		return api.ErrMany, 0, 0
+	}
+	var all []rule.Rule
+	for number, given := range rules {
+		made, errno, place := rule.Make(given)
+		if errno != api.OK {
+			return errno, number, place
+		}
+		all = append(all, made)
+	}
+	e.rules = all
+	return api.OK, 0, 0
+}
 
 // Relabel rewrites the labels of a series (P6).
 func (e *Engine) Relabel(labels []api.Label) ([]api.Label, bool, api.Errno) {
-	return nil, false, api.OK
+	rewritten, errno := series.Read(labels)
+	if errno != api.OK {
+		return nil, false, errno
+	}
+	for _, r := range e.rules {
+		if !r.Apply(rewritten) {
+			return nil, false, api.OK
+		}
+	}
+	return rewritten.List(), true, api.OK
 }
 
 // Flush forgets what was remembered (P7).
