@@ -284,7 +284,10 @@ func TestReadme(t *testing.T) {
 		api.Rule{Action: api.Drop, Sources: []string{"host"}, Regex: "test.*"},
 		api.Rule{Action: api.LabelDrop, Regex: "port"})
 	wantRelabel(t, e, labels("host=a", "port=80"), "address=a:80 host=a")
-	wantRelabel(t, e, labels("host=test1", "port=80"), "-")
 	wantLoad(t, e, []api.Rule{{Action: api.Keep, Regex: "a**"}}, api.ErrRegex, 0, 2)
+	wantCached(t, e, 1)
 	wantRelabel(t, e, labels("host=a", "port=80"), "address=a:80 host=a")
+	wantRelabel(t, e, labels("host=test1", "port=80"), "-")
+	e.Flush()
+	wantCached(t, e, 0)
 }

@@ -5,6 +5,7 @@ import (
 	"retag/api"
 	"retag/digest"
 	"retag/expand"
+	"retag/memory"
 	"retag/regex"
 	"retag/rule"
 	"retag/series"
@@ -12,8 +13,8 @@ import (
 
 // Engine rewrites labels.
 type Engine struct {
-	rules []rule.Rule
-	cache int // how many series may be remembered
+	rules  []rule.Rule
+	memory *memory.Memory
 }
 
 // Match tells whether a pattern matches, and what its groups stand for (P3).
@@ -44,7 +45,7 @@ func Hash(s string) uint64 { return digest.Of(s) }
 
 // Open makes an engine (P5).
 func Open(cache int) *Engine {
-	return &Engine{cache: max(1, min(cache, api.MaxCache))}
+	return &Engine{memory: memory.New(max(1, min(cache, api.MaxCache)))}
 }
 
 // Load gives an engine other rules (P5).
@@ -61,25 +62,32 @@ func (e *Engine) Load(rules []api.Rule) (api.Errno, int, int) {
 		all = append(all, made)
 	}
 	e.rules = all
+	e.memory.Forget()
 	return api.OK, 0, 0
 }
 
 // Relabel rewrites the labels of a series (P6).
 func (e *Engine) Relabel(labels []api.Label) ([]api.Label, bool, api.Errno) {
-	rewritten, errno := series.Read(labels)
+	asked, errno := series.Read(labels)
 	if errno != api.OK {
 		return nil, false, errno
 	}
+	answer := e.memory.Recall(asked, e.rewrite)
+	return answer.Labels, answer.Kept, api.OK
+}
+
+func (e *Engine) rewrite(asked series.Series) memory.Answer {
+	labels := asked.Labels()
 	for _, r := range e.rules {
-		if !r.Apply(rewritten) {
-			return nil, false, api.OK
+		if !r.Apply(labels) {
+			return memory.Answer{}
 		}
 	}
-	return rewritten.List(), true, api.OK
+	return memory.Answer{Labels: labels.List(), Kept: true}
 }
 
 // Flush forgets what was remembered (P7).
-func (e *Engine) Flush() {}
+func (e *Engine) Flush() { e.memory.Forget() }
 
 // Cached tells how much is remembered (P7).
-func (e *Engine) Cached() int { return 0 }
+func (e *Engine) Cached() int { return e.memory.Count() }

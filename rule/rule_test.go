@@ -68,7 +68,8 @@ func check(t *testing.T, given api.Rule, want api.Errno, wantPlace int) {
 		return
 	}
 	if errno == api.OK {
-		labels, _ := series.Read(nil)
+		empty, _ := series.Read(nil)
+		labels := empty.Labels()
 		made.Apply(labels)
 	}
 }
@@ -254,7 +255,8 @@ func TestNothingHandedInIsKeptOrWritten(t *testing.T) {
 		t.Fatalf("%d, %v", errno, room)
 	}
 	room[0], room[1] = "b", "a"
-	labels, _ := series.Read([]api.Label{{Name: "a", Value: "X"}, {Name: "b", Value: "Y"}})
+	read, _ := series.Read([]api.Label{{Name: "a", Value: "X"}, {Name: "b", Value: "Y"}})
+	labels := read.Labels()
 	if !made.Apply(labels) || labels.Value("t") != "x;y" {
 		t.Errorf("%v", labels.List())
 	}

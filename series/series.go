@@ -1,4 +1,5 @@
-// Package series holds the labels of a series while rules rewrite them.
+// Package series holds the labels of a series, as they came and while rules
+// rewrite them.
 package series
 
 import (
@@ -8,29 +9,44 @@ import (
 	"retag/api"
 )
 
-// Labels are those of one series: sorted by their names, each once, none with
-// an empty value.
+// A Series is the labels of one as they came: sorted by their names, each
+// once, none with an empty value. Two that are equal are the same series, since
+// each name and each value stands in a place of its own.
+type Series struct {
+	labels [api.MaxLabels]api.Label
+	count  int
+}
+
+// Labels are those of a series that is rewritten, sorted in the same way.
 type Labels struct {
 	list []api.Label
 }
 
-// Read makes the labels of a series of a list; with an error there are none.
-func Read(list []api.Label) (*Labels, api.Errno) {
+// Read makes a series of a list; with an error there is none. It copies the
+// texts, since a series may be remembered and nothing handed in is kept.
+func Read(list []api.Label) (Series, api.Errno) {
 	if len(list) > api.MaxLabels {
-		return nil, api.ErrMany
+		return Series{}, api.ErrMany
 	}
 	if slices.ContainsFunc(list, isWrong) {
-		return nil, api.ErrLabel
+		return Series{}, api.ErrLabel
 	}
-	labels := &Labels{}
+	var labels Labels
 	for _, label := range list {
-		labels.Set(label.Name, label.Value)
+		labels.Set(strings.Clone(label.Name), strings.Clone(label.Value))
 	}
-	return labels, api.OK
+	var read Series
+	read.count = copy(read.labels[:], labels.list)
+	return read, api.OK
 }
 
 func isWrong(label api.Label) bool {
 	return !IsName(label.Name) || len(label.Value) > api.MaxValue
+}
+
+// Labels tells those of a series, to be rewritten; the series stays.
+func (s Series) Labels() *Labels {
+	return &Labels{list: slices.Clone(s.labels[:s.count])}
 }
 
 // List tells the labels; the list is the caller's.
@@ -57,8 +73,15 @@ func (l *Labels) Set(name, value string) {
 	if value == "" || len(l.list) == api.MaxSeries {
 		return
 	}
-	value = value[:min(len(value), api.MaxValue)]
-	l.list = slices.Insert(l.list, at, api.Label{Name: name, Value: value})
+	l.list = slices.Insert(l.list, at, api.Label{Name: name, Value: cut(value)})
+}
+
+// cut copies what is left of a long value, lest the whole of it be kept.
+func cut(value string) string {
+	if len(value) > api.MaxValue {
+		return strings.Clone(value[:api.MaxValue])
+	}
+	return value
 }
 
 // TakeAway takes the labels away whose names are chosen.

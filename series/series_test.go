@@ -5,6 +5,7 @@ import (
 	"strconv"
 	"strings"
 	"testing"
+	"unsafe"
 
 	"retag/api"
 	"retag/series"
@@ -19,13 +20,18 @@ func labels(texts ...string) []api.Label {
 	return out
 }
 
+func readSeries(t *testing.T, list []api.Label) series.Series {
+	t.Helper()
+	s, errno := series.Read(list)
+	if errno != api.OK {
+		t.Fatalf("Read(%v) = %v, %d", list, s, errno)
+	}
+	return s
+}
+
 func read(t *testing.T, list []api.Label) *series.Labels {
 	t.Helper()
-	l, errno := series.Read(list)
-	if l == nil || errno != api.OK {
-		t.Fatalf("Read(%v) = %v, %d", list, l, errno)
-	}
-	return l
+	return readSeries(t, list).Labels()
 }
 
 func TestIsName(t *testing.T) {
@@ -84,8 +90,8 @@ func TestReadRefuses(t *testing.T) {
 		{labels("a", long[1:]), api.OK}, {labels("a-b", "1"), api.ErrLabel},
 		{labels(strings.Repeat("n", api.MaxName), "1"), api.OK}, {labels(strings.Repeat("n", api.MaxName+1), "1"), api.ErrLabel},
 	} {
-		if l, errno := series.Read(c.in); errno != c.want || (l == nil) != (c.want != api.OK) {
-			t.Errorf("Read(%v) = %v, %d, want %d", c.in, l, errno, c.want)
+		if s, errno := series.Read(c.in); errno != c.want || (s == series.Series{}) != (c.want != api.OK) {
+			t.Errorf("Read(%v) = %v, %d, want %d", c.in, s, errno, c.want)
 		}
 	}
 }
@@ -182,5 +188,66 @@ func TestListsAreTheCallers(t *testing.T) {
 	}
 	if again := l.List(); !reflect.DeepEqual(again, labels("a", "9", "c", "3", "d", "9")) {
 		t.Errorf("the labels have become %v", again)
+	}
+}
+
+func TestSameSeries(t *testing.T) {
+	for _, lists := range [][][]api.Label{
+		{nil, labels("a", ""), labels("a", "1", "a", ""), labels("b", "", "a", "")},
+		{labels("a", "1"), labels("a", "2", "a", "1"), labels("a", "", "a", "1"), labels("b", "", "a", "1", "c", ""), labels("b", "1", "a", "1", "b", "")},
+		{labels("a", "1", "b", "2"), labels("b", "2", "a", "1"), labels("a", "9", "b", "2", "a", "1", "b", "2")},
+	} {
+		for _, list := range lists {
+			if readSeries(t, list) != readSeries(t, lists[0]) {
+				t.Errorf("%v and %v are not the same series", list, lists[0])
+			}
+		}
+	}
+}
+
+// TestDifferentSeries takes such as are alike when their texts are laid one
+// behind the other, with or without something between.
+func TestDifferentSeries(t *testing.T) {
+	lists := [][]api.Label{
+		nil, labels("a", "b1"), labels("ab", "1"), labels("a", "1", "b", "2"), labels("a", "2", "b", "1"), labels("a", "1b2"),
+		labels("a", "1=b=2"), labels("a", "1,b=2"), labels("a", "1\x00b\x002"), labels("a", "1\xffb\xff2"), labels("a", "1", "b2", "c", "c", "3"),
+		labels("a", "1", "b", "2c", "c", "3"), labels("a", "1b2c", "c", "3"), labels("a", "1"), labels("A", "1"), labels("b", "1"), labels("a", "b"), labels("b", "a"),
+		labels("a", "\x00"), labels("a", "\x00\x00"), labels("a", "\xff"), labels("a", "\xfe"), labels("a", "\ufffd"), labels("a", "é"), labels("a", "e\u0301"), labels("a", " "), labels("a", "1 "),
+	}
+	for i, one := range lists {
+		for _, other := range lists[:i] {
+			if readSeries(t, one) == readSeries(t, other) {
+				t.Errorf("%q and %q are the same series", one, other)
+			}
+		}
+	}
+}
+
+func TestSeriesStaysWhileItsLabelsAreRewritten(t *testing.T) {
+	s := readSeries(t, labels("b", "2", "a", "1"))
+	first := s.Labels()
+	first.Set("a", "9")
+	first.Set("c", "9")
+	first.TakeAway(func(name string) bool { return name == "b" })
+	if got := s.Labels().List(); !reflect.DeepEqual(got, labels("a", "1", "b", "2")) || s != readSeries(t, got) {
+		t.Errorf("the series has become %v", got)
+	}
+}
+
+func TestReadKeepsNoTexts(t *testing.T) {
+	room := []byte("ab12")
+	s := readSeries(t, []api.Label{{Name: unsafe.String(&room[0], 2), Value: unsafe.String(&room[2], 2)}})
+	copy(room, "zzzz")
+	if got := s.Labels().List(); !reflect.DeepEqual(got, labels("ab", "12")) {
+		t.Errorf("the series has become %v", got)
+	}
+}
+
+func TestCutValueHoldsNoMore(t *testing.T) {
+	long := strings.Repeat("v", 10*api.MaxValue)
+	l := read(t, nil)
+	l.Set("a", long)
+	if value := l.Value("a"); value != long[:api.MaxValue] || unsafe.StringData(value) == unsafe.StringData(long) {
+		t.Errorf("the value %q holds on to all that it was cut from", value)
 	}
 }
